@@ -1,0 +1,1 @@
+"""Everywidth: sums of words, at every width at once."""

@@ -1,0 +1,1 @@
+"""Sums of words: their texts."""

@@ -1,0 +1,50 @@
+"""The words that sums and claims are written in, and what may be a name or a number among them."""
+
+SUM_PARTS = {
+    "not": 1,
+    "neg": 1,
+    "twice": 1,
+    "low": 1,
+    "and": 2,
+    "or": 2,
+    "odd": 2,
+    "add": 2,
+    "sub": 2,
+    "pick": 3,
+}
+
+CLAIM_WORDS = ("same", "under", "beneath", "sign", "nought", "both", "either", "so", "never", "yes")
+
+LETTERS = "abcdefghijklmnopqrstuvwxyz"
+
+FIGURES = "0123456789"
+
+LONGEST_NAME = 8
+
+
+def is_sum_word(text):
+    """Whether the text is a word that makes a sum of other sums."""
+    return text in SUM_PARTS
+
+
+def parts_of(word):
+    """How many sums stand behind a word of a sum: none behind a name or a number."""
+    return SUM_PARTS.get(word, 0)
+
+
+def is_made_of(text, signs):
+    """Whether the text is not empty and has no other signs than these."""
+    return text != "" and all([sign in signs for sign in text])
+
+
+def is_name(text):
+    """Whether the text may stand for a word: the words of sums and of claims may not."""
+    if text in SUM_PARTS or text in CLAIM_WORDS:
+        return False
+    return len(text) <= LONGEST_NAME and is_made_of(text, LETTERS)
+
+
+def is_figures(text):
+    """Whether the text is a whole number in figures, without a nought ahead."""
+    # Signs are looked at one by one, as isdigit takes figures of other scripts, too.
+    return is_made_of(text, FIGURES) and (text == "0" or not text.startswith("0"))
