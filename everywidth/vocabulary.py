@@ -13,7 +13,21 @@ SUM_PARTS = {
     "pick": 3,
 }
 
-CLAIM_WORDS = ("same", "under", "beneath", "sign", "nought", "both", "either", "so", "never", "yes")
+SUMS_IN_CLAIM = {
+    "same": 2,
+    "under": 2,
+    "beneath": 2,
+    "sign": 1,
+    "nought": 1,
+}
+
+CLAIMS_IN_CLAIM = {
+    "both": 2,
+    "either": 2,
+    "so": 2,
+    "never": 1,
+    "yes": 0,
+}
 
 LETTERS = "abcdefghijklmnopqrstuvwxyz"
 
@@ -27,9 +41,24 @@ def is_sum_word(text):
     return text in SUM_PARTS
 
 
+def is_claim_word(text):
+    """Whether the text is a word that makes a claim."""
+    return text in SUMS_IN_CLAIM or text in CLAIMS_IN_CLAIM
+
+
+def sums_behind(word):
+    """How many sums stand behind a word of a sum or a claim: none behind a name or a number."""
+    return SUM_PARTS.get(word, 0) + SUMS_IN_CLAIM.get(word, 0)
+
+
+def claims_behind(word):
+    """How many claims stand behind a word of a sum or a claim."""
+    return CLAIMS_IN_CLAIM.get(word, 0)
+
+
 def parts_of(word):
-    """How many sums stand behind a word of a sum: none behind a name or a number."""
-    return SUM_PARTS.get(word, 0)
+    """How many parts, sums or claims, stand behind a word of a sum or a claim."""
+    return sums_behind(word) + claims_behind(word)
 
 
 def is_made_of(text, signs):
@@ -39,7 +68,7 @@ def is_made_of(text, signs):
 
 def is_name(text):
     """Whether the text may stand for a word: the words of sums and of claims may not."""
-    if text in SUM_PARTS or text in CLAIM_WORDS:
+    if is_sum_word(text) or is_claim_word(text):
         return False
     return len(text) <= LONGEST_NAME and is_made_of(text, LETTERS)
 

@@ -40,6 +40,8 @@ NODES = (
     ast.Slice, ast.Name, ast.List, ast.Tuple, ast.arguments, ast.arg, ast.expr_context, ast.boolop, ast.operator,
     ast.unaryop, ast.cmpop,
 )
+WALKED = ("zip", "enumerate", "reversed", "range", "items", "keys", "values")
+WALKERS = ("list", "tuple", "dict", "sorted", "sum", "any", "all", "enumerate", "zip", "min", "max")
 TOP_NODES = (ast.ImportFrom, ast.FunctionDef, ast.ClassDef, ast.Assign)
 
 
@@ -49,6 +51,11 @@ def own_files():
 
 def is_docstring(node):
     return isinstance(node, ast.Expr) and isinstance(node.value, ast.Constant) and isinstance(node.value.value, str)
+
+
+def called(node):
+    """The name of the function or the method that is called."""
+    return getattr(node.func, "id", None) or getattr(node.func, "attr", None)
 
 
 def imports_of(path):
@@ -196,6 +203,54 @@ class TreesTest(unittest.TestCase):
                 for op, side in zip(node.ops, node.comparators):
                     if isinstance(op, (ast.Is, ast.IsNot)):
                         self.assertIsInstance(side, ast.Constant, place)
+
+    def test_locals_are_not_called_like_what_the_top_binds(self):
+        for path in own_files():
+            tree = ast.parse(path.read_text())
+            bound = {top.name for top in tree.body if hasattr(top, "name")}
+            bound |= {alias.asname or alias.name for top in tree.body if hasattr(top, "names") for alias in top.names}
+            for top in tree.body:
+                for node in ast.walk(top):
+                    if isinstance(node, ast.arg):
+                        self.assertNotIn(node.arg, bound, f"{path}:{node.lineno}")
+                    if isinstance(node, ast.Name) and isinstance(node.ctx, ast.Store):
+                        self.assertNotIn(node.id, bound, f"{path}:{node.lineno}")
+
+    def test_walked_at_once(self):
+        for path in own_files():
+            tree = ast.parse(path.read_text())
+            walked = set()
+            for node in ast.walk(tree):
+                if isinstance(node, (ast.For, ast.comprehension)):
+                    walked.add(id(node.iter))
+                if isinstance(node, ast.Call) and node.args and getattr(node.func, "id", None) in WALKERS:
+                    walked.update(id(argument) for argument in node.args)
+                if isinstance(node, ast.Call) and getattr(node.func, "attr", None) == "join":
+                    walked.update(id(argument) for argument in node.args)
+            for node in ast.walk(tree):
+                if isinstance(node, ast.Call) and called(node) in WALKED:
+                    self.assertIn(id(node), walked, f"{path}:{node.lineno}")
+
+    def test_errors_taken(self):
+        for node, place in self.walk():
+            if isinstance(node, ast.ExceptHandler):
+                self.assertIsNotNone(node.type, place)
+                for taken in ast.walk(node.type):
+                    if isinstance(taken, ast.Name):
+                        self.assertNotIn(taken.id, ("Exception", "TypeError"), place)
+
+    def test_sets(self):
+        for path in own_files():
+            tree = ast.parse(path.read_text())
+            asked = set()
+            for node in ast.walk(tree):
+                if isinstance(node, ast.Compare):
+                    asked.update(id(part) for side in [node.left] + node.comparators for part in ast.walk(side))
+                if isinstance(node, ast.Call) and called(node) in ("sorted", "len"):
+                    asked.update(id(part) for argument in node.args for part in ast.walk(argument))
+            for node in ast.walk(tree):
+                if isinstance(node, ast.Set) or isinstance(node, ast.Call) and called(node) in ("set", "frozenset"):
+                    self.assertIn(id(node), asked, f"{path}:{node.lineno}")
 
 
 if __name__ == "__main__":

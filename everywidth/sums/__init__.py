@@ -1,1 +1,1 @@
-"""Sums of words: their texts."""
+"""Sums of words: their texts and their worths."""

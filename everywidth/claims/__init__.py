@@ -1,0 +1,1 @@
+"""Claims about sums of words."""

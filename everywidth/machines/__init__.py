@@ -1,0 +1,1 @@
+"""Machines that read the bits of words from the least on."""
