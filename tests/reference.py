@@ -171,3 +171,48 @@ def gathered(chance, make, names, depth, longest, many):
         if within_bounds(row, longest):
             rows.append(row)
     return rows
+
+
+def first_choice(names, width, fits):
+    """The first choice of words of the names at the width that fits, or None; all words are gone through."""
+    for values in choices(names, width, range(2**width)):
+        if fits(values):
+            return values
+    return None
+
+
+def drawn_machine(chance, names, many, kind):
+    """A machine by chance of so many states, some of them alike, some perhaps led to by none."""
+    letters = 2 ** len(names)
+    led_to = [chance.randrange(many) for _ in range(chance.randrange(1, many + 1))]
+    steps = [tuple(chance.choice(led_to) for _ in range(letters)) for _ in range(many)]
+    rows = [tuple(kind(chance.randrange(2)) for _ in range(letters)) for _ in range(2)]
+    out = [rows[chance.random() < 0.3] for _ in range(many)]
+    for _ in range(many // 3):
+        state, other = chance.randrange(many), chance.randrange(many)
+        steps[state], out[state] = steps[other], out[other]
+    return (names, chance.randrange(many), tuple(steps), tuple(out))
+
+
+def states_come_to(machine):
+    """The states led to from the begin, in the order of [11]: state by state, letter by letter."""
+    order = [machine[1]]
+    for state in order:
+        order.extend(led for led in dict.fromkeys(machine[2][state]) if led not in order)
+    return order
+
+
+def unlike_pairs(machine):
+    """All pairs of states that some row of letters parts."""
+    _, _, steps, out = machine
+    many = range(len(steps))
+    unlike = {(one, other) for one in many for other in many if out[one] != out[other]}
+    grown = True
+    while grown:
+        more = {
+            (one, other) for one in many for other in many
+            if (one, other) not in unlike and any(pair in unlike for pair in zip(steps[one], steps[other]))
+        }
+        unlike |= more
+        grown = bool(more)
+    return unlike

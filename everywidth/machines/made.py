@@ -2,6 +2,7 @@
 
 from everywidth.bits import words_at
 from everywidth.machines.columns import name_columns, remembers, stepped
+from everywidth.machines.found import machine_found
 
 
 def machine_of(words, names):
@@ -20,18 +21,15 @@ def machine_telling(words, names, told):
     columns = name_columns(names, letters)
     # Behind the last 1 of all numbers their bits are 0: from there on the place makes no other state.
     last_place = longest_number(words)
-    states = [(0, tuple([0 for word in words if remembers(word)]))]
-    numbers = {states[0]: 0}
-    steps = []
-    out = []
-    while len(steps) < len(states):
-        state = states[len(steps)]
+
+    def step_of(state):
         step = stepped(words, columns, state[0], state[1])
         place = min(state[0] + 1, last_place)
         reached = [(place, bits_at(step[1], letter)) for letter in letters]
-        steps.append(tuple([state_number(led_to, states, numbers) for led_to in reached]))
-        out.append(tuple([told[(step[0] >> letter) & 1] for letter in letters]))
-    return (tuple(names), 0, tuple(steps), tuple(out))
+        return (reached, [told[(step[0] >> letter) & 1] for letter in letters])
+
+    begin = (0, tuple([0 for word in words if remembers(word)]))
+    return machine_found(names, begin, step_of)[1]
 
 
 def longest_number(words):
@@ -42,11 +40,3 @@ def longest_number(words):
 def bits_at(columns, letter):
     """The bits that stand in the columns for a letter."""
     return tuple([(column >> letter) & 1 for column in columns])
-
-
-def state_number(state, states, numbers):
-    """The number of a state; one that is new is put behind the states there are."""
-    if state not in numbers:
-        numbers[state] = len(states)
-        states.append(state)
-    return numbers[state]
