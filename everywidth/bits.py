@@ -1,5 +1,12 @@
 """Words of bits: whole numbers at a width, and their rows of bits, the least first."""
 
+GREATEST_WIDTH = 60
+
+
+def is_width(number):
+    """Whether a number is a width that papers and lines may tell."""
+    return 1 <= number <= GREATEST_WIDTH
+
 
 def words_at(width):
     """How many words there are at the width."""
@@ -7,6 +14,11 @@ def words_at(width):
     for bit_number in range(width):
         many = many * 2
     return many
+
+
+def is_word(number, width):
+    """Whether a number is a word at the width as it stands."""
+    return 0 <= number < words_at(width)
 
 
 def cut(number, width):

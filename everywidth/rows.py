@@ -24,3 +24,26 @@ def refuse_lacking(words, values):
     for word in words:
         if isinstance(word, str) and is_name(word) and word not in values:
             raise NoName(word)
+
+
+def part_end(words, begin):
+    """The place behind the part that begins at a place of a row of words."""
+    place = begin
+    lacking = 1
+    while lacking > 0:
+        lacking += parts_of(words[place]) - 1
+        place += 1
+    return place
+
+
+def paths_of(words):
+    """For each place of a row of words the path to the part that begins there, a tuple of numbers of parts."""
+    paths = []
+    coming = [()]
+    for word in words:
+        path = coming.pop()
+        paths.append(path)
+        # What is put in last comes first: so the last part is put in ahead of the others.
+        for number in range(parts_of(word) - 1, -1, -1):
+            coming.append(path + (number,))
+    return paths

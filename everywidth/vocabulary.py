@@ -41,6 +41,11 @@ def is_sum_word(text):
     return text in SUM_PARTS
 
 
+def sum_words_with(parts):
+    """The words that make a sum of so many other sums."""
+    return [word for word in SUM_PARTS if SUM_PARTS[word] == parts]
+
+
 def is_claim_word(text):
     """Whether the text is a word that makes a claim."""
     return text in SUMS_IN_CLAIM or text in CLAIMS_IN_CLAIM

@@ -42,6 +42,11 @@ NODES = (
 )
 WALKED = ("zip", "enumerate", "reversed", "range", "items", "keys", "values")
 WALKERS = ("list", "tuple", "dict", "sorted", "sum", "any", "all", "enumerate", "zip", "min", "max")
+CHANGING = ("append", "clear", "extend", "insert", "pop", "remove", "reverse", "setdefault", "update")
+KEYWORDS = {
+    "sorted": ("key", "reverse"), "min": ("key", "default"), "max": ("key", "default"), "sum": ("start",),
+    "enumerate": ("start",), "zip": ("strict",),
+}
 TOP_NODES = (ast.ImportFrom, ast.FunctionDef, ast.ClassDef, ast.Assign)
 
 
@@ -204,10 +209,10 @@ class TreesTest(unittest.TestCase):
                     if isinstance(op, (ast.Is, ast.IsNot)):
                         self.assertIsInstance(side, ast.Constant, place)
 
-    def test_locals_are_not_called_like_what_the_top_binds(self):
+    def test_locals_are_not_called_like_classes_and_imports(self):
         for path in own_files():
             tree = ast.parse(path.read_text())
-            bound = {top.name for top in tree.body if hasattr(top, "name")}
+            bound = {top.name for top in tree.body if isinstance(top, ast.ClassDef)}
             bound |= {alias.asname or alias.name for top in tree.body if hasattr(top, "names") for alias in top.names}
             for top in tree.body:
                 for node in ast.walk(top):
@@ -238,6 +243,38 @@ class TreesTest(unittest.TestCase):
                 for taken in ast.walk(node.type):
                     if isinstance(taken, ast.Name):
                         self.assertNotIn(taken.id, ("Exception", "TypeError"), place)
+
+    def test_nothing_is_changed_while_it_is_walked(self):
+        for node, place in self.walk():
+            if not isinstance(node, ast.For):
+                continue
+            walked = {part.id for part in ast.walk(node.iter) if isinstance(part, ast.Name)}
+            for part in [inner for row in node.body for inner in ast.walk(row)]:
+                changed = None
+                if isinstance(part, ast.Call) and called(part) in CHANGING and isinstance(part.func, ast.Attribute):
+                    changed = part.func.value
+                if isinstance(part, ast.Subscript) and isinstance(part.ctx, ast.Store):
+                    changed = part.value
+                if isinstance(changed, ast.Name):
+                    self.assertNotIn(changed.id, walked, place)
+
+    def test_keywords(self):
+        for node, place in self.walk():
+            if isinstance(node, ast.Call):
+                for keyword in node.keywords:
+                    self.assertIn(keyword.arg, KEYWORDS.get(called(node), ()), place)
+
+    def test_lists_and_dicts_of_the_top_are_flat(self):
+        for path in own_files():
+            for top in ast.parse(path.read_text()).body:
+                if isinstance(top, ast.Assign) and isinstance(top.value, (ast.List, ast.Dict)):
+                    inner = list(ast.walk(top.value))[1:]
+                    self.assertFalse([node for node in inner if isinstance(node, (ast.List, ast.Dict))], path)
+
+    def test_one_lambda_a_line(self):
+        for path in own_files():
+            lines = [node.lineno for node in ast.walk(ast.parse(path.read_text())) if isinstance(node, ast.Lambda)]
+            self.assertEqual(len(lines), len(set(lines)), path)
 
     def test_sets(self):
         for path in own_files():

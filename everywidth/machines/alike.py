@@ -9,10 +9,13 @@ from everywidth.sums.texts import names_of
 def compared(one, other):
     """("same", paper) of two sums with the same worth at every width, else ("parted", width, words)."""
     names = names_of(one + other)
-    first = machine_of(one, names)
-    second = machine_of(other, names)
-    begins = (first[1], second[1])
-    found = machine_found(names, begins, lambda pair: (next_pairs(first, second, pair), partings(first, second, pair)))
+    return machines_compared(machine_of(one, names), machine_of(other, names))
+
+
+def machines_compared(one, other):
+    """As of two sums, of two machines of sums of the same names."""
+    begins = (one[1], other[1])
+    found = machine_found(one[0], begins, lambda pair: (next_pairs(one, other, pair), partings(one, other, pair)))
     width = least_width_of_truth(found[1])
     if width is None:
         return ("same", tuple(found[0]))

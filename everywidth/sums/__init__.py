@@ -1,1 +1,1 @@
-"""Sums of words: their texts and their worths."""
+"""Sums of words: their texts and worths, how they are turned, and the fewest words of them."""
